@@ -1,0 +1,42 @@
+"""Values of every kind that may be passed in the place of any other."""
+
+from undertap.houses import House
+from undertap.rules import Rule
+
+GREAT = 10 ** 999
+
+
+def nested(make, depth):
+    """0 within so many layers of what make makes."""
+    value = 0
+    for _ in range(depth):
+        value = make(value)
+    return value
+
+
+def plain_rule():
+    return Rule("end", 0, 0, 0, 0)
+
+
+def plain_house():
+    return House(plain_rule(), 1, 0, 1, False, (1, 1))
+
+
+def kinds():
+    """New values of every kind; none of them equals another one of another kind that stands here."""
+    return [
+        None, True, False,
+        -GREAT, -1, 0, 1, 2, 3, 4, GREAT,
+        "", " ", "0", "1", "end", "End", "front", "rank", "way", "still", "rule", "room", "True", "None", "end\n",
+        [], [0], [1, 1], [1, 2], ["end"], ["end", 0, 0, 0, 0], [[]], [None],
+        (), (0,), (1,), (1, 1), (1, 2), (1, 1, 1), ("end",), ("end", 0, 0, 0, 0), ((),), ([],),
+        {}, {0: 0}, {1: 1}, {1: 1, 2: 2}, {"way": "end"}, {"end": 0}, {(0, 1): [0]},
+        nested(lambda value: [value], 20), nested(lambda value: (value,), 20), nested(lambda value: {"a": value}, 20),
+        plain_rule(), plain_house(), [plain_rule()], (plain_house(),), {"rule": plain_rule()},
+    ]
+
+
+def kinds_but(good):
+    """The values of every kind that are none of the good ones, True and False being no numbers."""
+    keys = [(value.__class__, value) for value in good]
+    return [value for value in kinds() if not any(value.__class__ is kind and value == one for kind, one in keys)]

@@ -1,0 +1,96 @@
+"""The section "The interface" of the document, and the outer form of the files."""
+
+import ast
+import unittest
+from pathlib import Path
+
+PACKAGE = Path(__file__).resolve().parent.parent / "undertap"
+MODULES = (
+    "errors", "rules", "houses", "ticks", "courses", "reach", "wishes", "waits", "lots", "likeness", "back", "screen",
+    "journals", "texts", "desk",
+)
+# What each module that is written so far must define, with the methods and properties of its classes.
+CLASSES = {
+    "errors": {
+        "TapError": (), "BadRule": (), "BadHouse": (), "BadStanding": (), "BadMoment": (), "BadWish": (),
+        "BadMeasure": (), "BadScreens": (), "OtherHouses": (), "TooMany": (), "NothingDone": (), "BadJournal": (),
+        "BadText": (),
+    },
+    "rules": {"Rule": ("__init__", "__eq__", "way", "still", "hold", "pins", "guard", "with_part")},
+    "houses": {"House": ("__init__", "__eq__", "rule", "room", "top", "many", "goes", "lag")},
+}
+
+
+def tree_of(path):
+    return ast.parse(path.read_text(encoding="utf-8"))
+
+
+def written():
+    """The modules of the document that are there, in its order."""
+    return [name for name in MODULES if (PACKAGE / f"{name}.py").exists()]
+
+
+class Interface(unittest.TestCase):
+    def test_init_defines_nothing(self):
+        for node in tree_of(PACKAGE / "__init__.py").body:
+            self.assertIsInstance(node, ast.Expr)
+            self.assertIsInstance(node.value, ast.Constant)
+
+    def test_each_class_is_defined_in_its_module(self):
+        for module, classes in CLASSES.items():
+            nodes = {node.name for node in tree_of(PACKAGE / f"{module}.py").body if isinstance(node, ast.ClassDef)}
+            for name in classes:
+                with self.subTest(module, name=name):
+                    self.assertIn(name, nodes)
+
+    def test_each_method_is_defined_in_its_class(self):
+        for module, classes in CLASSES.items():
+            for node in tree_of(PACKAGE / f"{module}.py").body:
+                if isinstance(node, ast.ClassDef) and node.name in classes:
+                    own = {part.name for part in node.body if isinstance(part, ast.FunctionDef)}
+                    with self.subTest(module, name=node.name):
+                        self.assertLessEqual(set(classes[node.name]), own)
+
+    def test_each_module_imports_only_modules_named_before_it(self):
+        for name in written():
+            later = {f"undertap.{other}" for other in MODULES[MODULES.index(name):]}
+            for node in ast.walk(tree_of(PACKAGE / f"{name}.py")):
+                if isinstance(node, ast.ImportFrom):
+                    with self.subTest(name, module=node.module):
+                        self.assertEqual(node.level, 0)
+                        self.assertNotIn(node.module, later)
+
+
+class Form(unittest.TestCase):
+    def test_the_package_holds_python_files_only(self):
+        names = [path.name for path in PACKAGE.iterdir() if path.name != "__pycache__"]
+        self.assertEqual([name for name in names if not name.endswith(".py")], [])
+
+    def test_signs_lines_and_files(self):
+        for path in sorted(PACKAGE.glob("*.py")):
+            lines = path.read_text(encoding="utf-8").split("\n")
+            with self.subTest(path.name):
+                self.assertLessEqual(len(lines), 400)
+                self.assertEqual([line for line in lines if len(line) > 120], [])
+                self.assertEqual([line for line in lines if any(not " " <= sign <= "~" for sign in line)], [])
+
+    def test_no_function_is_long(self):
+        for path in sorted(PACKAGE.glob("*.py")):
+            for node in ast.walk(tree_of(path)):
+                if isinstance(node, ast.FunctionDef):
+                    with self.subTest(path.name, name=node.name):
+                        self.assertLessEqual(node.end_lineno - node.lineno + 1, 40)
+
+    def test_imports_name_their_names(self):
+        for path in sorted(PACKAGE.glob("*.py")):
+            for node in ast.walk(tree_of(path)):
+                with self.subTest(path.name):
+                    self.assertNotIsInstance(node, ast.Import)
+                    if isinstance(node, ast.ImportFrom):
+                        self.assertNotIn("*", [alias.name for alias in node.names])
+                        known = node.module.split(".")[0] in ("undertap", "heapq", "math", "itertools", "__future__")
+                        self.assertTrue(known, node.module)
+
+
+if __name__ == "__main__":
+    unittest.main()
