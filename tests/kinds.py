@@ -1,4 +1,6 @@
-"""Values of every kind that may be passed in the place of any other."""
+"""Values of every kind that may be passed in the place of any other, and what is asked of all objects."""
+
+import unittest
 
 from undertap.houses import House
 from undertap.rules import Rule
@@ -40,3 +42,23 @@ def kinds_but(good):
     """The values of every kind that are none of the good ones, True and False being no numbers."""
     keys = [(value.__class__, value) for value in good]
     return [value for value in kinds() if not any(value.__class__ is kind and value == one for kind, one in keys)]
+
+
+class ObjectTest(unittest.TestCase):
+    """Tests of objects, which are equal to none of another kind and cannot be iterated over."""
+
+    def assert_apart(self, one, other):
+        self.assertFalse(one == other)
+        self.assertFalse(other == one)
+        self.assertTrue(one != other)
+        self.assertTrue(other != one)
+
+    def assert_not_iterable(self, thing):
+        for over in (iter, list, tuple, sorted, dict, enumerate):
+            with self.subTest(over), self.assertRaises(TypeError):
+                over(thing)
+        with self.assertRaises(TypeError):
+            for _ in thing:
+                pass
+        with self.assertRaises(TypeError):
+            _, *_ = thing

@@ -3,7 +3,7 @@
 import itertools
 import unittest
 
-from tests.kinds import GREAT, kinds, kinds_but, plain_house, plain_rule
+from tests.kinds import GREAT, ObjectTest, kinds, kinds_but, plain_house, plain_rule
 from undertap.errors import BadHouse
 from undertap.houses import House
 from undertap.rules import Rule
@@ -144,13 +144,7 @@ class Making(unittest.TestCase):
         self.assertEqual(house.rule, Rule("front", 1, 2, 0, 3))
 
 
-class Likeness(unittest.TestCase):
-    def assert_apart(self, one, other):
-        self.assertFalse(one == other)
-        self.assertFalse(other == one)
-        self.assertTrue(one != other)
-        self.assertTrue(other != one)
-
+class Likeness(ObjectTest):
     def test_equal_if_the_six_are(self):
         for six in itertools.product(*GOOD.values()):
             with self.subTest(six):
@@ -193,17 +187,9 @@ class Likeness(unittest.TestCase):
                 self.assert_apart(house, other)
 
 
-class NotIterable(unittest.TestCase):
+class NotIterable(ObjectTest):
     def test_a_house_cannot_be_iterated_over(self):
-        house = House(*FIRST)
-        for over in (iter, list, tuple, sorted, dict, enumerate):
-            with self.subTest(over), self.assertRaises(TypeError):
-                over(house)
-        with self.assertRaises(TypeError):
-            for _ in house:
-                pass
-        with self.assertRaises(TypeError):
-            _, _, _, _, _, _ = house
+        self.assert_not_iterable(House(*FIRST))
 
 
 if __name__ == "__main__":

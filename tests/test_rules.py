@@ -3,7 +3,7 @@
 import itertools
 import unittest
 
-from tests.kinds import GREAT, kinds, kinds_but, plain_house
+from tests.kinds import GREAT, ObjectTest, kinds, kinds_but, plain_house
 from undertap.errors import BadRule
 from undertap.rules import Rule
 
@@ -159,13 +159,7 @@ class WithPart(unittest.TestCase):
                     self.assert_bad(None, name, value)
 
 
-class Likeness(unittest.TestCase):
-    def assert_apart(self, one, other):
-        self.assertFalse(one == other)
-        self.assertFalse(other == one)
-        self.assertTrue(one != other)
-        self.assertTrue(other != one)
-
+class Likeness(ObjectTest):
     def test_equal_if_the_five_are(self):
         for five in itertools.product(*GOOD.values()):
             with self.subTest(five):
@@ -196,17 +190,9 @@ class Likeness(unittest.TestCase):
                 self.assert_apart(rule, other)
 
 
-class NotIterable(unittest.TestCase):
+class NotIterable(ObjectTest):
     def test_a_rule_cannot_be_iterated_over(self):
-        rule = Rule(*FIRST)
-        for over in (iter, list, tuple, sorted, dict, enumerate):
-            with self.subTest(over), self.assertRaises(TypeError):
-                over(rule)
-        with self.assertRaises(TypeError):
-            for _ in rule:
-                pass
-        with self.assertRaises(TypeError):
-            _, _, _, _, _ = rule
+        self.assert_not_iterable(Rule(*FIRST))
 
 
 if __name__ == "__main__":
