@@ -2,6 +2,7 @@
 
 import unittest
 
+from undertap.errors import BadHouse
 from undertap.houses import House
 from undertap.rules import Rule
 
@@ -42,6 +43,28 @@ def kinds_but(good):
     """The values of every kind that are none of the good ones, True and False being no numbers."""
     keys = [(value.__class__, value) for value in good]
     return [value for value in kinds() if not any(value.__class__ is kind and value == one for kind, one in keys)]
+
+
+def not_houses():
+    """Values of every kind but houses, and some that are near to one."""
+    six = (plain_rule(), 1, 0, 1, False, (1, 1))
+    return [value for value in kinds() if not isinstance(value, House)] + [six, list(six), [plain_house()]]
+
+
+class ErrorTest(unittest.TestCase):
+    """Tests of calls that raise an error."""
+
+    def assert_error(self, error, attribute, value, work, *given, **named):
+        with self.assertRaises(error) as caught:
+            work(*given, **named)
+        kept = getattr(caught.exception, attribute)
+        self.assertEqual((kept.__class__, kept), (value.__class__, value))
+
+    def assert_bad_house(self, work, *others):
+        """That work, with these values behind it, refuses whatever is no house."""
+        for value in not_houses():
+            with self.subTest(work.__name__, value=value):
+                self.assert_error(BadHouse, "part", "house", work, value, *others)
 
 
 class ObjectTest(unittest.TestCase):

@@ -19,6 +19,19 @@ CLASSES = {
     "rules": {"Rule": ("__init__", "__eq__", "way", "still", "hold", "pins", "guard", "with_part")},
     "houses": {"House": ("__init__", "__eq__", "rule", "room", "top", "many", "goes", "lag")},
 }
+# What else each of them must define: functions, with the names of their parameters.
+FUNCTIONS = {
+    "ticks": {
+        "is_standing": ("house", "thing"), "first_standing": ("house",), "moments_at": ("house", "standing"),
+        "tick_at": ("house", "standing", "moment"),
+    },
+    "courses": {"is_course": ("house", "thing"), "run_of": ("house", "course"), "behind_of": ("house", "course")},
+    "reach": {"standings_of": ("house",), "course_to": ("house", "standing")},
+    "wishes": {
+        "wish_holds": ("house", "wish"), "breaker_of": ("house", "wish"), "paper_of": ("house", "wish"),
+        "is_paper": ("house", "wish", "thing"),
+    },
+}
 
 
 def tree_of(path):
@@ -50,6 +63,16 @@ class Interface(unittest.TestCase):
                     own = {part.name for part in node.body if isinstance(part, ast.FunctionDef)}
                     with self.subTest(module, name=node.name):
                         self.assertLessEqual(set(classes[node.name]), own)
+
+    def test_each_function_is_defined_in_its_module(self):
+        for module, functions in FUNCTIONS.items():
+            nodes = {node.name: node for node in tree_of(PACKAGE / f"{module}.py").body
+                     if isinstance(node, ast.FunctionDef)}
+            for name, parameters in functions.items():
+                with self.subTest(module, name=name):
+                    self.assertIn(name, nodes)
+                    self.assertEqual(tuple(part.arg for part in nodes[name].args.args), parameters)
+                    self.assertEqual(nodes[name].args.defaults, [])
 
     def test_each_module_imports_only_modules_named_before_it(self):
         for name in written():

@@ -80,3 +80,9 @@ class House:
             and self._goes == other._goes
             and self._lag == other._lag
         )
+
+
+def check_house(value, part="house"):
+    """Raises BadHouse with the name of the parameter unless its value is a house."""
+    if not isinstance(value, House):
+        raise BadHouse(part)

@@ -8,9 +8,14 @@ MOST_TICKS = 3
 MOST_PINS = 2
 
 
+def is_number(value):
+    """Whether any value is a number; a bool is none."""
+    return isinstance(value, int) and not isinstance(value, bool)
+
+
 def is_number_within(value, least, most):
-    """Whether any value is a number from least to most; a bool is no number."""
-    return isinstance(value, int) and not isinstance(value, bool) and least <= value <= most
+    """Whether any value is a number from least to most."""
+    return is_number(value) and least <= value <= most
 
 
 def is_one_of(value, texts):
