@@ -56,6 +56,11 @@ def sampled_houses(stride, **parts):
     return [house_of(*ten) for ten in itertools.islice(itertools.product(*choices.values()), 0, None, stride)]
 
 
+def items_of(*ranks, stood=0):
+    """Items of a standing, none of them gone."""
+    return tuple((rank, False, stood) for rank in ranks)
+
+
 def come(rank, hand=NONE):
     return (("come", rank), hand)
 

@@ -141,8 +141,10 @@ class WithPart(unittest.TestCase):
                     self.assert_bad(part, part, value)
 
     def test_texts_that_are_no_names(self):
-        for name in ("", " ", "Way", "ways", "wa", "way ", " way", "WAY", "part", "value", "end", "rule", "room", "self",
-                     "_way", "waystill", "with_part", "0", "None"):
+        for name in (
+            "", " ", "Way", "ways", "wa", "way ", " way", "WAY", "part", "value", "end", "rule", "room", "self", "_way",
+            "waystill", "with_part", "0", "None",
+        ):
             with self.subTest(name):
                 self.assert_bad(None, name, 0)
 
