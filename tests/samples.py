@@ -43,6 +43,12 @@ def house_with(**parts):
     return house_of(**dict(PLAIN, **parts))
 
 
+# Far more than 800 standings come in it.
+CROWDED = house_of("rank", 3, 3, 2, 3, 4, 2, 2, True, (1, 3))
+# No item is ever gone in it, and few of its forms come.
+WIDE = house_with(way="front", guard=1, still=1, hold=1, lag=(1, 3))
+
+
 def ten_of(house):
     """What house_of makes this house of."""
     rule = house.rule
@@ -97,3 +103,43 @@ def searched(house, most=10 ** 6):
         if len(far) > most:
             return None
     return far
+
+
+def small_houses(stride, most=800, **parts):
+    """Houses in which at most so many standings come, each with how far these are."""
+    for house in sampled_houses(stride, **parts):
+        far = searched(house, most)
+        if far is not None:
+            yield house, far
+
+
+def led_to(house, standings, known=()):
+    """The standings, and all to which ticks lead from them, without those that are known."""
+    rows = [standing for standing in standings if standing not in known]
+    for standing in rows:
+        for moment in moments_at(house, standing):
+            behind, _ = tick_at(house, standing, moment)
+            if behind not in rows and behind not in known:
+                rows.append(behind)
+    return rows
+
+
+def forms_of(house):
+    """The standings of the right form of a house without goings that shows two items and in which few wait."""
+    items = list(itertools.product(range(house.top + 1), (False,), range(house.rule.guard + 1)))
+    for many, waiting, quiet in itertools.product((0, 1, 2), ((), (0,), (1,)), range(house.rule.still + 1)):
+        looks = [()] + list(itertools.product(range(house.lag[1]), (0, 1), range(-1, many)))
+        for shown, one in itertools.product(itertools.product(items, repeat=many), looks):
+            yield (shown, waiting, quiet, one)
+
+
+def closed_of(house, many):
+    """A list of just so many different standings that has the first one and all to which they lead."""
+    rows = led_to(house, [first_standing(house)])
+    for standing in forms_of(house):
+        known = dict.fromkeys(rows)
+        new = led_to(house, [standing], known)
+        if len(rows) + len(new) <= many:
+            rows += new
+    assert len(rows) == many == len(set(rows))
+    return rows

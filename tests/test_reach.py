@@ -4,7 +4,8 @@ import unittest
 
 from tests.kinds import ErrorTest, kinds, not_houses
 from tests.samples import (
-    JUST_800, JUST_801, REST, come, house_of, house_with, sampled_houses, searched, some_course, ten_of,
+    CROWDED, JUST_800, JUST_801, REST, come, house_of, house_with, sampled_houses, searched, small_houses, some_course,
+    ten_of,
 )
 from undertap.courses import behind_of, is_course
 from undertap.errors import BadHouse, BadStanding, TooMany
@@ -14,17 +15,8 @@ from undertap.ticks import first_standing, is_standing, moments_at, tick_at
 # The smallest house: what comes in it can be told by hand.
 SMALL = house_with(room=1, top=0)
 SMALL_STANDINGS = [((), (), 0, ()), (((0, False, 0),), (), 0, ()), (((0, False, 0),), (), 0, (0, 0, 0))]
-CROWDED = house_of("rank", 3, 3, 2, 3, 4, 2, 2, True, (1, 3))
 # It shows two items at most, in no more than so many standings.
 MIDDLE = house_of("front", 1, 1, 0, 1, 2, 1, 1, True, (1, 2))
-
-
-def small_houses(stride):
-    """Houses of many kinds in which at most 800 standings come, each with how far these are."""
-    for house in sampled_houses(stride):
-        far = searched(house, 800)
-        if far is not None:
-            yield house, far
 
 
 class WhatComes(unittest.TestCase):

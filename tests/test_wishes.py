@@ -6,8 +6,8 @@ import unittest
 
 from tests.kinds import GREAT, ErrorTest, kinds, not_houses, plain_house
 from tests.samples import (
-    ALL, JUST_800, JUST_801, NONE, REST, TAP, come, go, house_of, house_with, look, sampled_houses, searched,
-    some_course, ten_of,
+    ALL, CROWDED, JUST_800, JUST_801, NONE, REST, TAP, WIDE, closed_of, come, forms_of, go, house_of, house_with,
+    led_to, look, sampled_houses, searched, small_houses, some_course, ten_of,
 )
 from undertap.courses import is_course, run_of
 from undertap.errors import BadHouse, BadWish, TooMany
@@ -19,9 +19,6 @@ FREE = house_with(way="front", top=0)
 HELD = house_with(way="front", top=0, hold=1)
 GUARDED = house_with(way="front", top=0, guard=1)
 OPEN_WITH_TAP = [come(0, ("look", 0)), come(0, ("tap",))]
-CROWDED = house_of("rank", 3, 3, 2, 3, 4, 2, 2, True, (1, 3))
-# No item is ever gone in it, and few of its forms come.
-WIDE = house_with(way="front", guard=1, still=1, hold=1, lag=(1, 3))
 
 
 def no_wishes():
@@ -40,44 +37,10 @@ def broken_at(house, far):
     return least
 
 
-def small_houses(stride, **parts):
+def judged_houses(stride, **parts):
     """Houses in which at most 800 standings come, each with these and how soon each outcome can be."""
-    for house in sampled_houses(stride, **parts):
-        far = searched(house, 800)
-        if far is not None:
-            yield house, list(far), broken_at(house, far)
-
-
-def led_to(house, standings, known=()):
-    """The standings, and all to which ticks lead from them, without those that are known."""
-    rows = [standing for standing in standings if standing not in known]
-    for standing in rows:
-        for moment in moments_at(house, standing):
-            behind, _ = tick_at(house, standing, moment)
-            if behind not in rows and behind not in known:
-                rows.append(behind)
-    return rows
-
-
-def forms_of(house):
-    """The standings of the right form of a house without goings that shows two items and in which few wait."""
-    items = list(itertools.product(range(house.top + 1), (False,), range(house.rule.guard + 1)))
-    for many, waiting, quiet in itertools.product((0, 1, 2), ((), (0,), (1,)), range(house.rule.still + 1)):
-        looks = [()] + list(itertools.product(range(house.lag[1]), (0, 1), range(-1, many)))
-        for shown, one in itertools.product(itertools.product(items, repeat=many), looks):
-            yield (shown, waiting, quiet, one)
-
-
-def closed_of(house, many):
-    """A list of just so many different standings that has the first one and all to which they lead."""
-    rows = led_to(house, [first_standing(house)])
-    for standing in forms_of(house):
-        known = dict.fromkeys(rows)
-        new = led_to(house, [standing], known)
-        if len(rows) + len(new) <= many:
-            rows += new
-    assert len(rows) == many == len(set(rows))
-    return rows
+    for house, far in small_houses(stride, **parts):
+        yield house, list(far), broken_at(house, far)
 
 
 class Wishes(unittest.TestCase):
@@ -139,7 +102,7 @@ class Wishes(unittest.TestCase):
                     self.assert_breaker(house_with(**parts), wish, expected.get(wish))
 
     def test_against_a_search(self):
-        for house, _, least in small_houses(1511):
+        for house, _, least in judged_houses(1511):
             for wish in WISHES:
                 self.assert_breaker(house, wish, least.get(wish))
 
@@ -160,21 +123,21 @@ class Facts(unittest.TestCase):
     def test_a_guard_as_long_as_the_lag(self):
         for lag in ALL["lag"]:
             for guard in range(lag[1], 4):
-                for house, _, _ in small_houses(601, lag=lag, guard=guard):
+                for house, _, _ in judged_houses(601, lag=lag, guard=guard):
                     self.assert_hold(house, ["other"])
 
     def test_a_hold_as_long_as_the_lag(self):
         for lag in ALL["lag"]:
             for hold in range(lag[1], 4):
-                for house, _, _ in small_houses(601, lag=lag, hold=hold):
+                for house, _, _ in judged_houses(601, lag=lag, hold=hold):
                     self.assert_hold(house, ["other", "empty"])
 
     def test_where_all_is_put_in_behind_and_nothing_can_go(self):
-        for house, _, _ in small_houses(401, way="end", goes=False):
+        for house, _, _ in judged_houses(401, way="end", goes=False):
             self.assert_hold(house, ["other", "empty", "gone"])
 
     def test_nothing_is_let_go_by_without_a_guard(self):
-        for house, _, _ in small_houses(499, guard=0):
+        for house, _, _ in judged_houses(499, guard=0):
             self.assert_hold(house, ["back"])
 
     def test_less_than_the_lag_may_not_be_enough(self):
@@ -184,7 +147,7 @@ class Facts(unittest.TestCase):
         self.assertIs(wish_holds(house_with(goes=True, guard=3, lag=(1, 1)), "empty"), False)
 
     def test_there_is_a_paper_of_the_first_kind_exactly_if_the_wish_holds(self):
-        for house, standings, least in small_houses(2503):
+        for house, standings, least in judged_houses(2503):
             for wish in WISHES:
                 holds = wish not in least
                 self.assertIs(wish_holds(house, wish), holds)
@@ -197,7 +160,7 @@ class Papers(unittest.TestCase):
         self.assertIs(is_paper(house, wish, thing), good)
 
     def test_the_paper_that_is_made(self):
-        for house, _, least in small_houses(2503):
+        for house, _, least in judged_houses(2503):
             for wish in WISHES:
                 paper = paper_of(house, wish)
                 self.assertIs(paper.__class__, tuple)
@@ -464,7 +427,7 @@ class Calls(unittest.TestCase):
     def test_equal_arguments_give_equal_results(self):
         first = [(wish_holds(house, wish), breaker_of(house, wish), paper_of(house, wish))
                  for house in (FREE, HELD, WIDE) for wish in WISHES]
-        for house, standings, _ in small_houses(20011):
+        for house, standings, _ in judged_houses(20011):
             for wish in WISHES:
                 is_paper(house, wish, ("never", standings))
                 paper_of(house, wish)

@@ -2,7 +2,8 @@
 
 from undertap.errors import BadMoment
 from undertap.houses import check_house
-from undertap.ticks import first_standing, step_at
+from undertap.rules import is_list
+from undertap.ticks import first_standing, pairs_shown, step_at
 
 
 def steps_along(house, moments):
@@ -21,7 +22,7 @@ def steps_along(house, moments):
 def checked_steps(house, course):
     """The pairs of the standing and the outcome behind each tick; the error of the house or of the course."""
     check_house(house)
-    if not isinstance(course, (list, tuple)):
+    if not is_list(course):
         raise BadMoment(None)
     steps = steps_along(house, course)
     if len(steps) < len(course):
@@ -32,16 +33,12 @@ def checked_steps(house, course):
 def is_course(house, thing):
     """Whether any value is a course of the house."""
     check_house(house)
-    return isinstance(thing, (list, tuple)) and len(steps_along(house, thing)) == len(thing)
+    return is_list(thing) and len(steps_along(house, thing)) == len(thing)
 
 
 def run_of(house, course):
     """The list with the triple (shown, waiting, outcome) for each tick, shown being pairs (rank, is_gone)."""
-    rows = []
-    for standing, outcome in checked_steps(house, course):
-        shown = tuple([(rank, is_gone) for rank, is_gone, stood in standing[0]])
-        rows.append((shown, standing[1], outcome))
-    return rows
+    return [(pairs_shown(standing), standing[1], outcome) for standing, outcome in checked_steps(house, course)]
 
 
 def behind_of(house, course):

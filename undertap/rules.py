@@ -23,6 +23,11 @@ def is_one_of(value, texts):
     return isinstance(value, str) and value in texts
 
 
+def is_list(value):
+    """Whether any value is a list, or a tuple in the place of one."""
+    return isinstance(value, (list, tuple))
+
+
 class Rule:
     """A rule. Nothing changes it, so that houses may share it."""
 

@@ -67,6 +67,16 @@ def first_standing(house):
     return ((), (), house.rule.still, ())
 
 
+def ranks_shown(standing):
+    """The tuple of the ranks of the items that are shown, in order."""
+    return tuple([rank for rank, is_gone, stood in standing[0]])
+
+
+def pairs_shown(standing):
+    """The tuple of the pairs (rank, is_gone) of the items that are shown, in order."""
+    return tuple([(rank, is_gone) for rank, is_gone, stood in standing[0]])
+
+
 def changes_at(house, standing):
     """The ascending list of the changes that can come there."""
     shown, waiting = standing[:2]

@@ -3,8 +3,8 @@
 from undertap.courses import is_course, run_of
 from undertap.errors import BadWish
 from undertap.houses import check_house
-from undertap.reach import course_by, last_ticks, standings_of
-from undertap.rules import is_one_of
+from undertap.reach import course_with, standings_of, steps_of
+from undertap.rules import is_list, is_one_of
 from undertap.ticks import first_standing, is_standing, steps_at
 
 WISHES = ("back", "empty", "gone", "other")
@@ -21,13 +21,7 @@ def check_wish(house, wish):
 def breaker_of(house, wish):
     """A shortest course at whose last tick is a tap with this outcome, or None if the wish holds."""
     check_wish(house, wish)
-    lasts = last_ticks(house)
-    # The standings are sorted by distance: the first one at which the wish can be broken is nearest.
-    for ahead in lasts:
-        for moment, behind, outcome in steps_at(house, ahead):
-            if outcome == wish:
-                return course_by(lasts, ahead) + [moment]
-    return None
+    return course_with(first_standing(house), steps_of(house), wish)
 
 
 def wish_holds(house, wish):
@@ -45,7 +39,7 @@ def paper_of(house, wish):
 
 def are_standings(house, thing):
     """Whether any value is a list of different standings of the house, at most as many as a paper may have."""
-    if not isinstance(thing, (list, tuple)) or len(thing) > MOST_IN_PAPER:
+    if not is_list(thing) or len(thing) > MOST_IN_PAPER:
         return False
     # Only what has the form of a standing can be a member of a set.
     return all([is_standing(house, one) for one in thing]) and len(set(thing)) == len(thing)
