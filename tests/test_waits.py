@@ -107,23 +107,21 @@ def has_list(value):
     return value.__hash__ is None
 
 
-def in_pieces(house, many_of_each):
-    """Ticks by hand: each (moment, effect of "wait", effect of "back")."""
+def effects(house, course):
+    """The effect of each measure at each tick of a course: the pairs (wait, back)."""
     standing = first_standing(house)
-    for moment, wait, back in many_of_each:
+    for moment in course:
         standing, outcome = tick_at(house, standing, moment)
-        yield effect("wait", standing, outcome) == wait and effect("back", standing, outcome) == back
+        yield (effect("wait", standing, outcome), effect("back", standing, outcome))
 
 
 class HowOften(unittest.TestCase):
     def test_ticks_by_hand(self):
         # The test's own telling of the measures, against the words of the document.
-        self.assertTrue(all(in_pieces(SLOW, [
-            (REST, None, 0), (come(0), None, 0), (come(0), 1, 0), (look(0), 1, 0), (TAP, None, None), (REST, None, 0),
-        ])))
-        self.assertTrue(all(in_pieces(MOVING, [
-            (come(0, OPEN), None, 0), (come(0, SHUT), None, 1), (REST, None, 0), (look(0), None, 0), (TAP, None, None),
-        ])))
+        course = [REST, come(0), come(0), look(0), TAP, REST]
+        self.assertEqual(list(effects(SLOW, course)), [(None, 0), (None, 0), (1, 0), (1, 0), (None, None), (None, 0)])
+        course = [come(0, OPEN), come(0, SHUT), REST, look(0), TAP]
+        self.assertEqual(list(effects(MOVING, course)), [(None, 0), (None, 1), (None, 0), (None, 0), (None, None)])
 
     def test_against_a_search(self):
         told = set()
@@ -279,14 +277,13 @@ class Papers(unittest.TestCase):
         self.assert_most(FILLING, "back", paper, 2)
         one, two = [come(0, OPEN), TAP], [come(0, ("look", 1)), TAP]
         for course, good in (
-            (one + two, True), (one, False), (two, False), ([REST] + one + [REST] * 3 + two + [REST] * 2, True),
-            (one + [REST] * 50 + two + [REST] * 5, True),
-            (one + [REST] + two + [look(0)], True),
-            # The tap of an item that has stood long enough is let through.
-            (one + [look(0), TAP] + two, False), (one + two + [look(0), TAP], False),
-            (one + [look(0), (("come", 0), SHUT), look(1), TAP], False),
+            (one + two, True), (one, False), ([REST] + one + [REST] * 3 + two + [REST] * 2, True),
+            (one + [REST] * 50 + two + [REST] * 5, True), (one + [REST] + two + [look(0)], True),
+            # The tap of an item that has stood long enough ends it.
+            (one + [look(0), TAP] + two, False), (one + two + [look(0), TAP], False), (one + [look(0), TAP], False),
         ):
-            self.assert_paper(FILLING, "back", ("most", paper[1], course), good and is_course(FILLING, course))
+            self.assertIs(is_course(FILLING, course), True)
+            self.assert_paper(FILLING, "back", ("most", paper[1], course), good)
 
     def test_a_height_less_by_one(self):
         for house, measure in ((SLOW, "wait"), (FILLING, "back"), (WIDE, "wait"), (house_with(still=3), "wait")):
@@ -525,9 +522,9 @@ class Papers(unittest.TestCase):
             self.assert_paper(SLOW, "wait", thing, False)
         for thing in (
             list(ROUND), ROUND[:2], ROUND + ([],), ("ever", FULL + LET_BY), ("most", FULL, LET_BY),
-            ("Ever", FULL, LET_BY), ("ever", LET_BY, FULL), (FULL, LET_BY), (None, FULL, LET_BY), ("back", FULL, LET_BY),
-            ("course", FULL, LET_BY), ("ever", {}, LET_BY), ("ever", FULL, {}), ("ever", [FULL, LET_BY]),
-            (["ever"], FULL, LET_BY), {"ever": FULL},
+            ("Ever", FULL, LET_BY), ("ever", LET_BY, FULL), (FULL, LET_BY), (None, FULL, LET_BY),
+            ("back", FULL, LET_BY), ("course", FULL, LET_BY), ("ever", {}, LET_BY), ("ever", FULL, {}),
+            ("ever", [FULL, LET_BY]), (["ever"], FULL, LET_BY), {"ever": FULL},
         ):
             self.assert_paper(MOVING, "back", thing, False)
 
