@@ -204,8 +204,8 @@ class Errors(ErrorTest):
                 self.assert_bad(1, ((0,), value, None))
                 self.assert_bad(5, [()] * 5 + [value])
         for value in (
-            (True,), (False,), (0, False), ((0,),), (-1,), ("0",), (None,), (GREAT,), ([],), (plain_house(),), (0, None),
-            first_standing(FREE), come(0), (0,) * 5,
+            (True,), (False,), (0, False), ((0,),), (-1,), ("0",), (None,), (GREAT,), ([],), (plain_house(),),
+            (0, None), first_standing(FREE), come(0), (0,) * 5,
         ):
             self.assert_bad(0, [value, (0,)])
             self.assert_bad(2, [(), (0,), value])

@@ -9,7 +9,7 @@ MODULES = (
     "errors", "rules", "houses", "ticks", "courses", "reach", "wishes", "waits", "lots", "likeness", "back", "screen",
     "journals", "texts", "desk",
 )
-# What each module that is written so far must define, with the methods and properties of its classes.
+# The classes that each module must define, with their methods and properties.
 CLASSES = {
     "errors": {
         "TapError": (), "BadRule": (), "BadHouse": (), "BadStanding": (), "BadMoment": (), "BadWish": (),
@@ -18,8 +18,23 @@ CLASSES = {
     },
     "rules": {"Rule": ("__init__", "__eq__", "way", "still", "hold", "pins", "guard", "with_part")},
     "houses": {"House": ("__init__", "__eq__", "rule", "room", "top", "many", "goes", "lag")},
+    "screen": {
+        "Screen": ("__init__", "__eq__", "__enter__", "__exit__", "tick", "undo", "outcomes_ahead", "house", "course",
+                   "standing", "shown", "tried", "copy"),
+    },
+    "desk": {"Desk": ("__init__", "reply")},
 }
-# What else each of them must define: functions, with the names of their parameters.
+# The parameters of methods, behind the object itself.
+PARAMETERS = {
+    ("rules", "Rule"): {"__init__": ("way", "still", "hold", "pins", "guard"), "with_part": ("part", "value")},
+    ("houses", "House"): {"__init__": ("rule", "room", "top", "many", "goes", "lag")},
+    ("screen", "Screen"): {
+        "__init__": ("house",), "tick": ("change", "hand"), "undo": (), "outcomes_ahead": (), "tried": ("work",),
+        "copy": (),
+    },
+    ("desk", "Desk"): {"__init__": ("text",), "reply": ("line",)},
+}
+# The functions that each module must define, with the names of their parameters.
 FUNCTIONS = {
     "ticks": {
         "is_standing": ("house", "thing"), "first_standing": ("house",), "moments_at": ("house", "standing"),
@@ -31,6 +46,20 @@ FUNCTIONS = {
         "wish_holds": ("house", "wish"), "breaker_of": ("house", "wish"), "paper_of": ("house", "wish"),
         "is_paper": ("house", "wish", "thing"),
     },
+    "waits": {
+        "most_of": ("house", "measure"), "measure_paper": ("house", "measure"),
+        "is_measure_paper": ("house", "measure", "thing"),
+    },
+    "lots": {"triples_that": ("house", "wishes"), "least_triples": ("house", "wishes")},
+    "likeness": {"parting": ("one", "other"), "show_alike": ("one", "other")},
+    "back": {
+        "course_back": ("house", "screens"), "changes_back": ("house", "screens"), "waiting_back": ("house", "screens"),
+    },
+    "journals": {"first_wrong": ("house", "journal"), "replayed": ("house", "journal")},
+    "texts": {
+        "house_text": ("house",), "read_house": ("text",), "course_text": ("house", "course"),
+        "read_course": ("house", "text"),
+    },
 }
 
 
@@ -38,16 +67,15 @@ def tree_of(path):
     return ast.parse(path.read_text(encoding="utf-8"))
 
 
-def written():
-    """The modules of the document that are there, in its order."""
-    return [name for name in MODULES if (PACKAGE / f"{name}.py").exists()]
-
-
 class Interface(unittest.TestCase):
     def test_init_defines_nothing(self):
         for node in tree_of(PACKAGE / "__init__.py").body:
             self.assertIsInstance(node, ast.Expr)
             self.assertIsInstance(node.value, ast.Constant)
+
+    def test_each_module_is_there(self):
+        for name in MODULES:
+            self.assertTrue((PACKAGE / f"{name}.py").exists(), name)
 
     def test_each_class_is_defined_in_its_module(self):
         for module, classes in CLASSES.items():
@@ -64,6 +92,16 @@ class Interface(unittest.TestCase):
                     with self.subTest(module, name=node.name):
                         self.assertLessEqual(set(classes[node.name]), own)
 
+    def test_each_method_has_its_parameters(self):
+        for (module, name), methods in PARAMETERS.items():
+            body = next(node.body for node in tree_of(PACKAGE / f"{module}.py").body
+                        if isinstance(node, ast.ClassDef) and node.name == name)
+            found = {node.name: node.args for node in body if isinstance(node, ast.FunctionDef)}
+            for method, parameters in methods.items():
+                with self.subTest(name, method=method):
+                    self.assertEqual(tuple(part.arg for part in found[method].args[1:]), parameters)
+                    self.assertEqual(found[method].defaults, [])
+
     def test_each_function_is_defined_in_its_module(self):
         for module, functions in FUNCTIONS.items():
             nodes = {node.name: node for node in tree_of(PACKAGE / f"{module}.py").body
@@ -75,7 +113,7 @@ class Interface(unittest.TestCase):
                     self.assertEqual(nodes[name].args.defaults, [])
 
     def test_each_module_imports_only_modules_named_before_it(self):
-        for name in written():
+        for name in MODULES:
             later = {f"undertap.{other}" for other in MODULES[MODULES.index(name):]}
             for node in ast.walk(tree_of(PACKAGE / f"{name}.py")):
                 if isinstance(node, ast.ImportFrom):
